@@ -10,7 +10,7 @@ import (
 	"arras/param"
 	"arras/ring"
 	"arras/tape"
-	"arras/word"
+	"arras/texts"
 )
 
 // A ciphertext has two parts; what was multiplied has three.
@@ -126,20 +126,9 @@ func (x scheme) told(held api.Poly, level int) []uint64 {
 
 // spread is a text's at a level.
 func (x scheme) spread(text []uint64, level int) api.Poly {
-	centered := make([]int64, len(text))
-	for i, v := range text {
-		centered[i] = word.Center(v, x.T)
-	}
-	return joined(x.ring.Mul, x.step(level), x.lifted(centered, level))
-}
-
-// step is a level's step as an element: a number, and noughts behind it.
-func (x scheme) step(level int) api.Poly {
-	numbers := make([]api.Int, x.N)
-	// There is such a level, and its primes are a row, so nothing can be refused.
-	numbers[0].Abs, _, _ = param.Step(x.Params, level)
-	step, _ := crt.Element(numbers, x.row(level))
-	return step
+	// There is such a level, and it is a text, so nothing can be refused.
+	spread, _ := texts.Spread(x.Params, level, text)
+	return spread
 }
 
 // numbers are the centered ones of an element of a level.
