@@ -19,11 +19,11 @@ type comer struct {
 	shape []int
 }
 
-// take gives a node its stand-in.
+// take gives a node its stand-in, step by step: a step that tells true has found it.
 func (r *row) take(node api.Node, shape []int) {
 	c := comer{node, shape}
-	for _, isPlaced := range []func(c *comer) bool{r.turn, r.fold, r.find, r.lay} {
-		if isPlaced(&c) {
+	for _, step := range []func(c *comer) bool{r.turn, r.fold, r.find, r.lay} {
+		if step(&c) {
 			return
 		}
 	}
